@@ -1,0 +1,1 @@
+"""Leapwork: sworn works, and whose every break is."""

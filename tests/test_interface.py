@@ -1,0 +1,46 @@
+"""The interface: what is defined in which file, with which arguments."""
+
+import ast
+import importlib
+import inspect
+import pathlib
+import unittest
+
+FOLDER = pathlib.Path(__file__).resolve().parent.parent / "leapwork"
+FUNCTIONS = {
+    "terms": {"is_term": "(thing)", "is_row": "(thing)", "is_plain": "(thing)", "is_saying": "(thing)",
+              "letters_of": "(thing)", "notions_in": "(thing)", "put_in": "(thing, by)"},
+    "notions": {"firm": "(notions)"},
+}
+CLASSES = {
+    "errors": {"WorkError": None, "NoText": "(word)", "NoWriting": "(place)", "NoName": "(name)", "Standing": "(name)",
+               "Full": "(most)", "NoMark": "(number)", "BadLine": "(place)", "NoInputs": None, "NoTicks": None,
+               "NoWorths": None, "NoGoal": None, "NoPaper": None},
+}
+
+
+class Interface(unittest.TestCase):
+    def defined(self, file, kind):
+        tree = ast.parse((FOLDER / f"{file}.py").read_text(encoding="utf-8"))
+        return [node.name for node in tree.body if isinstance(node, kind)]
+
+    def test_functions(self):
+        for file, due in FUNCTIONS.items():
+            module = importlib.import_module(f"leapwork.{file}")
+            for name, arguments in due.items():
+                with self.subTest(f"{file}.{name}"):
+                    self.assertIn(name, self.defined(file, ast.FunctionDef))
+                    self.assertEqual(str(inspect.signature(getattr(module, name))), arguments)
+
+    def test_classes(self):
+        for file, due in CLASSES.items():
+            module = importlib.import_module(f"leapwork.{file}")
+            for name, arguments in due.items():
+                with self.subTest(f"{file}.{name}"):
+                    self.assertIn(name, self.defined(file, ast.ClassDef))
+                    if arguments is not None:
+                        self.assertEqual(str(inspect.signature(getattr(module, name))), arguments)
+
+
+if __name__ == "__main__":
+    unittest.main()
