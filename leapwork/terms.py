@@ -111,16 +111,14 @@ def put_in(thing, by):
     made = []
     for part in things_in(thing)[::-1]:
         inner = [made.pop() for _ in parts_of(part)]
-        made.append(_rebuilt(part, inner, by))
+        made.append(by.get(part[1], part) if part[0] in ("name", "row") else rebuilt(part, inner))
     return made[0]
 
 
-def _rebuilt(part, inner, by):
-    """One thing again, its parts replaced by the inner ones, or what is put in for it."""
+def rebuilt(part, inner):
+    """One thing again, with the inner ones for its parts."""
     word = part[0]
-    if word in ("name", "row"):
-        return by.get(part[1], part)
-    if word == "num":
+    if word in ("num", "name", "row"):
         return part
     if word == "mul":
         return (word, part[1], inner[0])

@@ -11,11 +11,17 @@ FUNCTIONS = {
     "terms": {"is_term": "(thing)", "is_row": "(thing)", "is_plain": "(thing)", "is_saying": "(thing)",
               "letters_of": "(thing)", "notions_in": "(thing)", "put_in": "(thing, by)"},
     "notions": {"firm": "(notions)"},
+    "worths": {"worth_of": "(thing, table, notions)", "truth_of": "(saying, table, notions)",
+               "first_no": "(saying, table, notions)", "looked": "(saying, table, notions)"},
+    "sums": {"form_of": "(thing)", "sum_of": "(term)"},
+    "lines": {"line_of": "(saying)", "made": "(lines, weights, *, divisor=1)", "is_closed": "(line)"},
 }
+METHODS = {("lines", "Line"): {"__eq__", "__len__"}}
 CLASSES = {
     "errors": {"WorkError": None, "NoText": "(word)", "NoWriting": "(place)", "NoName": "(name)", "Standing": "(name)",
                "Full": "(most)", "NoMark": "(number)", "BadLine": "(place)", "NoInputs": None, "NoTicks": None,
                "NoWorths": None, "NoGoal": None, "NoPaper": None},
+    "lines": {"Line": "(kind, pairs, number)"},
 }
 
 
@@ -40,6 +46,12 @@ class Interface(unittest.TestCase):
                     self.assertIn(name, self.defined(file, ast.ClassDef))
                     if arguments is not None:
                         self.assertEqual(str(inspect.signature(getattr(module, name))), arguments)
+
+    def test_methods_stand_in_their_own_class(self):
+        for (file, name), due in METHODS.items():
+            tree = ast.parse((FOLDER / f"{file}.py").read_text(encoding="utf-8"))
+            bodies = [node.body for node in tree.body if isinstance(node, ast.ClassDef) and node.name == name]
+            self.assertLessEqual(due, {part.name for part in bodies[0] if isinstance(part, ast.FunctionDef)})
 
 
 if __name__ == "__main__":
