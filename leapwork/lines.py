@@ -22,6 +22,26 @@ class Line:
         return len(self.pairs)
 
 
+class Numbering:
+    """Lines with numbers of forms for their atoms: (kind, {atom's number: weight}, number)."""
+
+    def __init__(self):
+        # The atoms by their numbers, each as it stands where it is first met.
+        self.atoms = {}
+        self._forms = Forms()
+
+    def numbered(self, line):
+        """The line so; None of None, which stands for a saying that is no line."""
+        if line is None:
+            return None
+        weights = {}
+        for atom, weight in line.pairs:
+            number = self._forms.atom_number(atom)
+            self.atoms.setdefault(number, atom)
+            weights[number] = weights.get(number, 0) + weight
+        return line.kind, weights, line.number
+
+
 def line_of(saying):
     """The line that a saying is, or None."""
     if saying[0] in ("le", "eq"):
@@ -34,13 +54,9 @@ def line_of(saying):
 
 def made(lines, weights, *, divisor=1):
     """The line that lines make by weights and a divisor; or BadLine."""
-    forms = Forms()
-    atoms = {}
-    numbered = []
-    for line in lines:
-        numbered.append(None if line is None else numbered_line(line, forms, atoms))
-    _, left, number = made_of(numbered, weights, divisor)
-    return Line("le", tuple([(atoms[atom], left[atom]) for atom in left]), number)
+    numbering = Numbering()
+    _, left, number = made_of([numbering.numbered(line) for line in lines], weights, divisor)
+    return Line("le", tuple([(numbering.atoms[atom], left[atom]) for atom in left]), number)
 
 
 def is_closed(line):
@@ -51,19 +67,6 @@ def is_closed(line):
 def is_never(kind, number):
     """Whether nought isn't at most, or isn't just, this number."""
     return number < 0 or (kind == "eq" and number != 0)
-
-
-def numbered_line(line, forms, atoms):
-    """A line with numbers of forms for its atoms: (kind, {atom's number: weight}, number).
-
-    The atoms are noted by their numbers, each as it stands where it is first met.
-    """
-    weights = {}
-    for atom, weight in line.pairs:
-        number = forms.atom_number(atom)
-        atoms.setdefault(number, atom)
-        weights[number] = weights.get(number, 0) + weight
-    return line.kind, weights, line.number
 
 
 def made_of(lines, weights, divisor):

@@ -23,7 +23,7 @@ def places_fit(places, letters):
 def _stands(notion, notions, standing):
     """Whether a notion stands firm, where standing has all lower ones that do."""
     _, name, floor, letters, zero, more = notion
-    if not letters or not _has_itself_as_told(notion):
+    if not letters or not has_itself_as_told(notion):
         return False
     for term in notion_terms_in(zero) + notion_terms_in(more):
         if term[1] == name:
@@ -42,7 +42,7 @@ def _leans_well(term, floor, notions, standing):
     return notions[name][2] < floor and places_fit(places, notions[name][3])
 
 
-def _has_itself_as_told(notion):
+def has_itself_as_told(notion):
     """Whether a notion stands in itself nowhere, or once in more, with its last letter less one."""
     _, name, _, letters, zero, more = notion
     if name in notions_in(zero):

@@ -36,17 +36,17 @@ _MOST_DIVISOR = 1000000000
 
 def is_term(thing):
     """Whether anything is a number's term, by its form and its letters' kinds."""
-    return _is_of(thing, "term")
+    return _is_of(thing, "term", False)
 
 
 def is_row(thing):
     """Whether anything is a row term, by its form and its letters' kinds."""
-    return _is_of(thing, "row")
+    return _is_of(thing, "row", False)
 
 
 def is_plain(thing):
     """Whether anything is a plain saying, by its form and its letters' kinds."""
-    return _is_of(thing, "plain")
+    return _is_of(thing, "plain", False)
 
 
 def is_saying(thing):
@@ -54,6 +54,15 @@ def is_saying(thing):
     if not isinstance(thing, tuple) or thing[:1] != ("all",):
         return is_plain(thing)
     return len(thing) == 4 and _is_bound(thing[1]) and _is_bound(thing[2]) and is_plain(thing[3])
+
+
+def has_form(thing, kind):
+    """Whether anything is a "term", "row", "place" (either of them), "plain" or "saying", any texts being letters."""
+    if kind != "saying":
+        return _is_of(thing, kind, True)
+    if not isinstance(thing, tuple) or thing[:1] != ("all",):
+        return _is_of(thing, "plain", True)
+    return len(thing) == 4 and all([_is_of(part, due, True) for part, due in zip(thing[1:], ("term", "term", "plain"))])
 
 
 def kind_of(thing):
@@ -134,24 +143,24 @@ def _is_bound(thing):
     return is_term(thing) and ("own", "number") not in letters_of(thing)
 
 
-def _is_of(thing, kind):
-    """Whether anything is of this kind, all its parts included."""
+def _is_of(thing, kind, any_texts):
+    """Whether anything is of this kind, all its parts included; names and letters are any texts, if so told."""
     todo = [(thing, kind)]
     while todo:
         part, due = todo.pop()
-        inner = _due_within(part, due)
+        inner = _due_within(part, due, any_texts)
         if inner is None:
             return False
         todo.extend(inner)
     return True
 
 
-def _due_within(part, due):
+def _due_within(part, due, any_texts):
     """The parts within this one, each with the kind that is due there; None where it isn't of its own."""
     if due == "places":
         return [(place, "place") for place in part] if isinstance(part, tuple) else None
     if due not in ("term", "row", "place", "plain"):
-        return [] if _is_value(part, due) else None
+        return [] if _is_value(part, due, any_texts) else None
     if not isinstance(part, tuple) or not part or not isinstance(part[0], str):
         return None
     kinds = _kinds_behind(part[0], due)
@@ -171,12 +180,14 @@ def _kinds_behind(word, due):
     return PLAINS.get(word)
 
 
-def _is_value(part, due):
+def _is_value(part, due, any_texts):
     """Whether anything is a number, a name or a letter of the kind that is due."""
     if due == "whole":
         return is_whole(part)
     if due == "divisor":
         return is_whole(part) and 1 <= part <= _MOST_DIVISOR
+    if any_texts:
+        return isinstance(part, str)
     if due == "called":
         return is_name(part)
     if is_whole(part):

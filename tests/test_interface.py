@@ -15,6 +15,10 @@ FUNCTIONS = {
                "first_no": "(saying, table, notions)", "looked": "(saying, table, notions)"},
     "sums": {"form_of": "(thing)", "sum_of": "(term)"},
     "lines": {"line_of": "(saying)", "made": "(lines, weights, *, divisor=1)", "is_closed": "(line)"},
+    "judge": {"is_bundle": "(thing)", "more_at": "(sayings, notions, node)", "judged": "(bundle, notions, paper)"},
+    "floor": {"floor_of": "(bundle)", "leaves_of": "(bundle)", "closed": "(sayings)"},
+    "texts": {"fault": "(thing)", "statements": "(text)", "called": "(text)", "ways": "(text)"},
+    "writing": {"shown": "(text)", "read": "(writing)"},
 }
 METHODS = {("lines", "Line"): {"__eq__", "__len__"}}
 CLASSES = {

@@ -116,6 +116,8 @@ class Language(unittest.TestCase):
             self.assertIsInstance(node, STATEMENTS, node.at)
             if isinstance(node, (ast.FunctionDef, ast.ClassDef)):
                 self.assertEqual(node.decorator_list, [], node.at)
+            if isinstance(node, ast.ClassDef):
+                self.assertRegex(node.name, "^[A-Z]", node.at)
 
     def test_functions_are_small(self):
         for node in self.nodes(ast.FunctionDef):
