@@ -56,11 +56,13 @@ def ways_of(block):
 
 def ends(block):
     """Whether a block ends: its last statement is a give, or an if both of whose blocks end."""
-    while block and block[-1][0] == "if":
-        if not ends(block[-1][2]):
+    todo = [block]
+    while todo:
+        last = todo.pop()[-1:]
+        if not last or last[0][0] not in ("give", "if"):
             return False
-        block = block[-1][3]
-    return len(block) > 0 and block[-1][0] == "give"
+        todo.extend(blocks_in(last[0]))
+    return True
 
 
 def _ways_of_statement(statement):

@@ -116,7 +116,7 @@ def _may_stand(text, where, thing):
         return False
     if where == "guard" and thing[0] == "all":
         return False
-    if (where == "give" and thing[0] in ("with", "room")) or (where == "row" and thing[0] == "with"):
+    if where == "give" and thing[0] in ("with", "room"):
         return False
     if text[0] != "work" or where not in _BARE:
         return True
@@ -129,7 +129,7 @@ def _letters_at(text, where):
     letters = [letter for letter, _ in letters_of_text(text)]
     if where == "gives" and text[0] == "work":
         return letters + ["given"]
-    if where in ("needs", "gives", "spends", "zero", "more"):
+    if where in ("needs", "gives", "spends"):
         return letters
     letters = letters + [letter for letter, _ in own_of(text)]
     return letters + ["left"] if where in ("hold", "keeps") else letters

@@ -65,11 +65,11 @@ def closed(sayings):
     for row in bounds:
         if not row.weights and row.number < 0:
             return (row.told(),)
-    ring = _ring([(*_ends(row.weights), row) for row in bounds if _ends(row.weights) is not None])
+    ring = _ring(_ways(bounds))
     if ring is None:
         return None
     added = tuple([(len(sayings) + number, 1) for number in range(len(ring))])
-    return (*[row.told() for row in ring], (added, 1))
+    return tuple([row.told() for row in ring] + [(added, 1)])
 
 
 def _tree(sayings, opened, split, splits):
@@ -163,6 +163,16 @@ def _less(weights, others, often):
     for each in others:
         left[each] = left.get(each, 0) - often * others[each]
     return {each: left[each] for each in left if left[each] != 0}
+
+
+def _ways(rows):
+    """The ways (from, to, row) that some of the rows are."""
+    ways = []
+    for row in rows:
+        ends = _ends(row.weights)
+        if ends is not None:
+            ways.append((ends[0], ends[1], row))
+    return ways
 
 
 def _ends(weights):

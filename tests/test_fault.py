@@ -305,6 +305,12 @@ class Where(Fault):
         self.in_work(("row", "s", R), ("row", "s", S), ("row", "s", ("room", X)))
         self.of_work("where", ("row", "s", ("with", R, A, A)), ("row", "s", ("with", ("room", A), A, A)))
 
+    def test_what_is_behind_a_claims_give(self):
+        # A claim has none, which is told later than where things stand.
+        self.broken("where", claim(statements=(("give", ("with", R, A, A)),)), claim(statements=(("give", ("room", A)),)),
+                    claim(statements=(("give", LEFT),)), claim(statements=(("give", ("row", "given")),)))
+        self.broken("ends", claim(statements=(("give", R),)), claim(statements=(("give", A),)))
+
     def test_guards_are_plain(self):
         self.of_work("where", ("if", ALL, (), ()), ("while", ALL, (), ()))
         self.broken("where", claim(statements=(("if", ALL, (), ()),)),

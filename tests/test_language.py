@@ -152,6 +152,34 @@ class Language(unittest.TestCase):
         for node in self.nodes(ast.Attribute):
             self.assertNotIn(node.attr, NOWHERE | {"format", "format_map"}, node.at)
 
+    def test_no_variable_is_called_as_an_import_or_class_of_its_file(self):
+        for path, tree in self.trees.items():
+            taken = {node.name for node in tree.body if isinstance(node, ast.ClassDef)}
+            taken |= {name.name for node in tree.body if isinstance(node, ast.ImportFrom) for name in node.names}
+            for node in ast.walk(tree):
+                if isinstance(node, ast.arg):
+                    self.assertNotIn(node.arg, taken, node.at)
+                if isinstance(node, ast.Name) and isinstance(node.ctx, ast.Store):
+                    self.assertNotIn(node.id, taken, node.at)
+
+    def test_stars_stand_before_plain_values(self):
+        for node in self.nodes(ast.Starred):
+            self.assertIsInstance(node.value, (ast.Name, ast.Attribute, ast.Subscript), node.at)
+
+    def test_functions_of_a_table_are_called_by_a_name(self):
+        for node in self.nodes(ast.Call):
+            self.assertIsInstance(node.func, (ast.Name, ast.Attribute), node.at)
+
+    def test_what_a_loop_goes_over_is_not_changed_in_it(self):
+        for node in self.nodes(ast.For):
+            over = ast.unparse(node.iter)
+            for part in [part for row in node.body for part in ast.walk(row)]:
+                if isinstance(part, ast.Call) and isinstance(part.func, ast.Attribute):
+                    if part.func.attr in ("append", "extend", "insert", "pop", "remove", "clear", "setdefault", "update"):
+                        self.assertNotEqual(ast.unparse(part.func.value), over, part.at)
+                if isinstance(part, ast.Subscript) and isinstance(part.ctx, (ast.Store, ast.Del)):
+                    self.assertNotEqual(ast.unparse(part.value), over, part.at)
+
     def test_words(self):
         for path, tree in self.trees.items():
             for node in ast.walk(tree):

@@ -194,6 +194,10 @@ class Made(unittest.TestCase):
         self.bad(0, [], ((0, 1),))
         self.bad(0, [], ((0, 0),))
 
+    def test_weights_that_are_no_tuple(self):
+        for weights in ([], [(0, 1)], None, 7, "", "01", True):
+            self.bad(0, self.LINES, weights)
+
     def test_bad_divisors(self):
         for divisor in (0, -1, -2, None, True, False, "1", (1,), [], 10 ** 30, 3, 4, -10 ** 30):
             self.bad(-1, self.LINES, ((0, 1),), divisor)

@@ -78,7 +78,7 @@ class NoWritings(unittest.TestCase):
         self.assertEqual(read(WHOLE), ("work", "a", -12, (), ("b", 0)))
 
     def test_the_whole_is_a_tuple(self):
-        for writing in ("a", "0", "-1", ")", " ", "a b", " ()", "num 1", "-", "\n()"):
+        for writing in ("a", "0", "-1", ")", " ", "a b", " ()", "num 1", "-", "\n()", ")(", " (", "a("):
             self.wrong(writing, 0)
 
     def test_behind_the_whole_nothing(self):
