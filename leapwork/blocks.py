@@ -40,6 +40,11 @@ def numbered(block):
     return found
 
 
+def writings_in(block):
+    """What the statements of a block, and those within them, write: tuples (statement's word, own letter)."""
+    return [statement[:2] for statement in numbered(block) if statement[0] in ("set", "put", "row", "do")]
+
+
 def all_blocks(block):
     """A block and all blocks within it, outer ones ahead."""
     return [block] + [inner for statement in numbered(block) for inner in blocks_in(statement)]

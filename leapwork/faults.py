@@ -3,7 +3,8 @@
 Each of these is asked only of what breaks none of those ahead of it.
 """
 
-from leapwork.blocks import all_blocks, block_of, blocks_in, ends, letters_of_text, numbered, oaths_of, own_of, ways_of
+from leapwork.blocks import all_blocks, block_of, blocks_in, ends, letters_of_text, numbered, oaths_of, own_of
+from leapwork.blocks import ways_of, writings_in
 from leapwork.names import KEPT, is_name
 from leapwork.notions import has_itself_as_told, places_fit
 from leapwork.sites import called_in, sites_of
@@ -33,7 +34,7 @@ def has_good_names(text):
     if not all([is_name(name) for name in names]) or len({letter: True for letter in letters}) < len(letters):
         return False
     standing = [letter for _, thing in sites_of(text) for letter, _ in letters_of(thing)]
-    written = [letter for _, letter in _written(text)]
+    written = [letter for _, letter in writings_in(block_of(text))]
     return all([letter in KEPT or letter in letters for letter in standing + written])
 
 
@@ -44,7 +45,7 @@ def has_good_kinds(text):
     if text[0] == "work":
         kinds["given"] = text[4]
     standing = [letter for _, thing in sites_of(text) for letter in letters_of(thing)]
-    for word, letter in _written(text):
+    for word, letter in writings_in(block_of(text)):
         if word != "do":
             standing.append((letter, "number" if word == "set" else "row"))
     if any([kinds.get(letter, kind) != kind for letter, kind in standing]):
@@ -59,7 +60,7 @@ def has_all_where_it_may_be(text):
     if text[0] == "notion" and not has_itself_as_told(text):
         return False
     own = [letter for letter, _ in own_of(text)]
-    if not all([letter in own for _, letter in _written(text)]):
+    if not all([letter in own for _, letter in writings_in(block_of(text))]):
         return False
     return all([_may_stand(text, where, thing) for where, thing in sites_of(text)])
 
@@ -91,12 +92,6 @@ def has_good_sizes(text):
     if len(statements) > _MOST_STATEMENTS or not _is_shallow(block_of(text)):
         return False
     return sum(ways_of(block_of(text))) <= _MOST_WAYS
-
-
-def _written(text):
-    """The letters that statements write, tuples (statement's word, letter)."""
-    statements = numbered(block_of(text))
-    return [statement[:2] for statement in statements if statement[0] in ("set", "put", "row", "do")]
 
 
 def _has_good_places(notion):

@@ -57,11 +57,15 @@ class Look:
 
     def truth(self, saying, table):
         """The truth of a saying, or None."""
-        if saying[0] == "all":
-            return self.gone_through(saying, table)[0]
-        return self.worth(saying, table)
+        return self.seen(saying, table)[0]
 
-    def gone_through(self, saying, table):
+    def seen(self, saying, table):
+        """The truth of a saying, or None, and the first place at which an all isn't so, or None."""
+        if saying[0] == "all":
+            return self._gone_through(saying, table)
+        return self.worth(saying, table), None
+
+    def _gone_through(self, saying, table):
         """Of an all its truth, or None, and the first place at which it isn't so, or None."""
         _, low, high, inner = saying
         place, end = self.worth(low, table), self.worth(high, table)

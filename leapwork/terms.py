@@ -72,11 +72,14 @@ def kind_of(thing):
 
 def parts_of(thing):
     """The terms, row terms and sayings right within a thing, from left to right."""
-    if thing[0] in ("num", "name", "row"):
+    word = thing[0]
+    if word in ("num", "name", "row"):
         return ()
-    if thing[0] == "notion":
+    if word == "notion":
         return thing[2]
-    return tuple([part for part in thing[1:] if isinstance(part, tuple)])
+    if word == "mul":
+        return thing[2:]
+    return thing[1:2] if word in ("div", "mod") else thing[1:]
 
 
 def things_in(thing):

@@ -15,9 +15,7 @@ def truth_of(saying, table, notions):
 
 def first_no(saying, table, notions):
     """The first place at which an all isn't so; None where there is none, and of all else."""
-    if saying[0] != "all":
-        return None
-    return Look(Firm(notions)).gone_through(saying, table)[1]
+    return Look(Firm(notions)).seen(saying, table)[1]
 
 
 def looked(saying, table, notions):
