@@ -3,21 +3,16 @@
 from leapwork.grounds import ground_of, more_on
 from leapwork.names import is_whole
 from leapwork.papers import is_within_bounds, papers_in
-from leapwork.sizes import has_short_numbers, is_small
+from leapwork.sizes import MOST_LETTERS, MOST_SAYINGS, MOST_TUPLES, MOST_WITHIN, has_short_numbers, is_small
 from leapwork.terms import is_saying, letters_of
-
-_MOST_SAYINGS = 60
-_MOST_LETTERS = 24
-_MOST_TUPLES = 2000
-_MOST_WITHIN = 40
 
 
 def is_bundle(thing):
     """Whether anything is a bundle."""
-    if not isinstance(thing, list) or not 1 <= len(thing) <= _MOST_SAYINGS:
+    if not isinstance(thing, list) or not 1 <= len(thing) <= MOST_SAYINGS:
         return False
     # The bounds first, so that no more than these is gone into.
-    if not is_small(thing, _MOST_TUPLES, _MOST_WITHIN) or not has_short_numbers(thing):
+    if not is_small(thing, MOST_TUPLES, MOST_WITHIN) or not has_short_numbers(thing):
         return False
     return all([is_saying(saying) for saying in thing]) and _has_good_letters(thing)
 
@@ -48,4 +43,4 @@ def _has_good_letters(sayings):
     letters = {letter: True for saying in sayings for letter in letters_of(saying)}
     if not all([is_whole(letter) for letter, _ in letters]):
         return False
-    return len(letters) <= _MOST_LETTERS and len({letter: True for letter, _ in letters}) == len(letters)
+    return len(letters) <= MOST_LETTERS and len({letter: True for letter, _ in letters}) == len(letters)

@@ -2,6 +2,12 @@
 
 from leapwork.names import is_whole
 
+# What a bundle has at most.
+MOST_SAYINGS = 60
+MOST_LETTERS = 24
+MOST_TUPLES = 2000
+MOST_WITHIN = 40
+
 # Thirty figures at most.
 _BEYOND = 1000000000000000000000000000000
 
@@ -12,7 +18,12 @@ def is_short(number):
 
 
 def is_small(things, most, deep):
-    """Whether things have at most so many tuples in all, and so many within one another.
+    """Whether things have at most so many tuples in all, and so many within one another."""
+    return tuples_in(things, most, deep) is not None
+
+
+def tuples_in(things, most, deep):
+    """How many tuples things have in all; None where these are more than most, or more than deep within one another.
 
     No more than that are gone through: one part may stand many times over.
     """
@@ -24,9 +35,9 @@ def is_small(things, most, deep):
             continue
         many += 1
         if many > most or depth > deep:
-            return False
+            return None
         todo.extend([(part, depth + 1) for part in thing if isinstance(part, tuple)])
-    return True
+    return many
 
 
 def has_short_numbers(things, but=None):
