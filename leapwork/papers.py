@@ -24,11 +24,34 @@ _MOST_TUPLES_WITHIN = 80
 _ANY = 1000000
 
 
+def has_word(thing):
+    """Whether anything is a tuple with a node's word first."""
+    return isinstance(thing, tuple) and len(thing) > 0 and isinstance(thing[0], str) and thing[0] in NODES
+
+
 def is_node(thing):
     """Whether anything is a tuple of a node's word with its number of parts."""
-    if not isinstance(thing, tuple) or not thing or not isinstance(thing[0], str):
-        return False
-    return thing[0] in NODES and len(thing) - 1 == NODES[thing[0]][0]
+    return has_word(thing) and len(thing) - 1 == NODES[thing[0]][0]
+
+
+def copied(thing):
+    """The same once more, all lists within it new ones."""
+    # What is within another is made ahead of it, its leftmost part last.
+    order = []
+    todo = [thing]
+    while todo:
+        part = todo.pop()
+        order.append(part)
+        if isinstance(part, (tuple, list)):
+            todo.extend(list(part)[::-1])
+    made = []
+    for part in order[::-1]:
+        if isinstance(part, (tuple, list)):
+            inner = [made.pop() for _ in part]
+            made.append(inner if isinstance(part, list) else tuple(inner))
+        else:
+            made.append(part)
+    return made[0]
 
 
 def papers_in(node):
