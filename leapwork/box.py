@@ -2,7 +2,6 @@
 
 from leapwork.books import text_in
 from leapwork.errors import NoInputs
-from leapwork.frames import NO_ROW
 from leapwork.inputs import are_worths
 from leapwork.names import is_whole
 from leapwork.walk import walk
@@ -56,9 +55,7 @@ def _worth_at(kind, number):
     """The worth of a letter that has this number."""
     if kind == "number":
         return _whole_at(number)
-    if number == 0:
-        return NO_ROW
-    # Behind the noughts in which it ends, and the one ahead of these.
+    # By two it ends in a one and noughts behind it, as many in all as the size; 0 has no one, and size 0.
     size = (number & -number).bit_length()
     numbers = [_whole_at(each) for each in dealt(number >> size, size)]
     return size, tuple([(place, each) for place, each in enumerate(numbers) if each != 0])
@@ -66,7 +63,7 @@ def _worth_at(kind, number):
 
 def _whole_at(number):
     """The whole number that has this number."""
-    return (number + 1) // 2 if number & 1 == 1 else -(number // 2)
+    return (number + 1) // 2 if number % 2 == 1 else -(number // 2)
 
 
 def _number_of_worth(worth):

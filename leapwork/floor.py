@@ -3,7 +3,7 @@
 from math import gcd
 
 from leapwork.cases import cases_of_saying, parts_of_saying
-from leapwork.lines import Numbering, line_of
+from leapwork.lines import Numbering
 from leapwork.papers import is_within_bounds
 
 _MOST_SPLITS = 4
@@ -46,19 +46,29 @@ class Row:
 
 def floor_of(bundle):
     """A paper that the judge lets by, or None: where a leaf isn't closed, or the paper is too great."""
-    paper = _paper_of(_tree(bundle, 0, 0, 0))
+    paper = _paper_of(_tree_of(bundle))
     return paper if paper is not None and is_within_bounds(paper) else None
 
 
 def leaves_of(bundle):
     """The lists of sayings at the leaves that the floor comes to."""
-    return _leaves_in(_tree(bundle, 0, 0, 0))
+    return [[saying for saying, _ in leaf] for leaf in _leaves_in(_tree_of(bundle))]
 
 
 def closed(sayings):
     """Rows that make a closed line of the sayings that are lines, or None."""
+    return _closed(_lined(sayings, Numbering()))
+
+
+def _lined(sayings, numbering):
+    """The sayings, each with the numbered line that it is, or None."""
+    return [(saying, numbering.of_saying(saying)) for saying in sayings]
+
+
+def _closed(leaf):
+    """Rows that make a closed line of the lines of a leaf, or None."""
     bounds = []
-    for row in _cleared(_rows_of(sayings)):
+    for row in _cleared(_rows_of(leaf)):
         bounds.append(row.divided(1))
         if row.kind == "eq":
             bounds.append(row.divided(-1))
@@ -68,35 +78,41 @@ def closed(sayings):
     ring = _ring(_ways(bounds))
     if ring is None:
         return None
-    added = tuple([(len(sayings) + number, 1) for number in range(len(ring))])
+    added = tuple([(len(leaf) + number, 1) for number in range(len(ring))])
     return tuple([row.told() for row in ring] + [(added, 1)])
 
 
-def _tree(sayings, opened, split, splits):
-    """What the floor goes through from a list of sayings on.
+def _tree_of(bundle):
+    """What the floor goes through from a bundle on."""
+    numbering = Numbering()
+    return _tree(_lined(bundle, numbering), numbering, 0, 0, 0)
+
+
+def _tree(lined, numbering, opened, split, splits):
+    """What the floor goes through from a list of sayings on, each with its line, or None.
 
     Those ahead of opened are opened already, those ahead of split are split,
     and splits were split. Told are the numbers of those that are opened now;
     then of a leaf None and its list, else the number that is split, and both trees.
     """
-    sayings = list(sayings)
+    lined = list(lined)
     numbers = []
-    while opened < len(sayings):
-        parts = parts_of_saying(sayings[opened])
+    while opened < len(lined):
+        parts = parts_of_saying(lined[opened][0])
         if parts is not None:
             numbers.append(opened)
-            sayings.extend(parts)
+            lined.extend(_lined(parts, numbering))
         opened += 1
-    while split < len(sayings) and cases_of_saying(sayings[split]) is None:
+    while split < len(lined) and cases_of_saying(lined[split][0]) is None:
         split += 1
-    if splits == _MOST_SPLITS or split == len(sayings):
-        return numbers, None, sayings
-    cases = cases_of_saying(sayings[split])
-    return numbers, split, [_tree(sayings + [case], opened, split + 1, splits + 1) for case in cases]
+    if splits == _MOST_SPLITS or split == len(lined):
+        return numbers, None, lined
+    cases = [_lined([case], numbering) for case in cases_of_saying(lined[split][0])]
+    return numbers, split, [_tree(lined + case, numbering, opened, split + 1, splits + 1) for case in cases]
 
 
 def _leaves_in(tree):
-    """The lists of sayings at the leaves of a tree, from left to right."""
+    """The lists at the leaves of a tree, from left to right."""
     _, split, inner = tree
     if split is None:
         return [inner]
@@ -107,7 +123,7 @@ def _paper_of(tree):
     """The paper of a tree, None where a leaf isn't closed."""
     numbers, split, inner = tree
     if split is None:
-        rows = closed(inner)
+        rows = _closed(inner)
         paper = None if rows is None else ("lines", rows)
     else:
         one = _paper_of(inner[0])
@@ -119,12 +135,10 @@ def _paper_of(tree):
     return paper
 
 
-def _rows_of(sayings):
-    """A row for each saying that is a line, in order."""
-    numbering = Numbering()
+def _rows_of(leaf):
+    """A row for each saying of a leaf that is a line, in order."""
     rows = []
-    for place, saying in enumerate(sayings):
-        line = numbering.numbered(line_of(saying))
+    for place, (_, line) in enumerate(leaf):
         if line is not None:
             kind, weights, number = line
             rows.append(Row(kind, weights, number, {place: 1}, 1))

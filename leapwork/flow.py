@@ -22,7 +22,7 @@ class Flow:
         self._behind = {}
         self._inside = {}
         self._places = {}
-        self._lay(block, 1, END)
+        self._add_block(block, 1, END)
 
     def statement(self, number):
         """The statement of this number."""
@@ -47,8 +47,8 @@ class Flow:
         _, _, _, block = self._statements[number]
         return list({letter: True for _, letter in writings_in(block)})
 
-    def _lay(self, block, number, end):
-        """Lay a block, whose first statement has this number, and behind which the place end is."""
+    def _add_block(self, block, number, end):
+        """Add a block, whose first statement has this number, and behind which the place end is."""
         for at, statement in enumerate(block):
             self._behind[number] = number + _many_in(statement) if at + 1 < len(block) else end
             back = -number if statement[0] == "while" else self._behind[number]
@@ -56,7 +56,7 @@ class Flow:
             first = number + 1
             for inner in blocks_in(statement):
                 begins.append(first if inner else back)
-                self._lay(inner, first, back)
+                self._add_block(inner, first, back)
                 first += len(numbered(inner))
             self._inside[number] = begins
             number += _many_in(statement)

@@ -2,7 +2,7 @@
 
 from leapwork.cases import NOUGHT, ONE, cases_of_saying, one_more, parts_of_saying
 from leapwork.errors import BadLine
-from leapwork.lines import Numbering, is_never, line_of, made_of
+from leapwork.lines import Numbering, is_never, made_of
 from leapwork.looks import Firm
 from leapwork.names import is_whole
 from leapwork.notions import places_fit
@@ -41,7 +41,7 @@ class Ground:
 
     def grown(self, more):
         """The ground of a child, at whose list these sayings stand more."""
-        lines = [self.facts.numbering.numbered(line_of(saying)) for saying in more]
+        lines = [self.facts.numbering.of_saying(saying) for saying in more]
         return Ground(self.facts, self.sayings + more, self.lines + lines)
 
     def saying(self, number):

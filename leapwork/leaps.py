@@ -72,7 +72,8 @@ def _goal_of(book, text, number):
     """The goal of a text that has anything as its number; or NoGoal, also where it is too great."""
     looks = looks_of(book, text)
     if is_whole(number) and 0 <= number < len(looks):
-        goal = goal_at(book, text, *looks[number])
+        way, look = looks[number]
+        goal = goal_at(book, text, way, look)
         if goal[2] is not None:
             return goal
     raise NoGoal("no goal that a leap may be asked of has this number")

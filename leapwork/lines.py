@@ -30,6 +30,15 @@ class Numbering:
         self.atoms = {}
         self._forms = Forms()
 
+    def of_saying(self, saying):
+        """The line that a saying is, so; or None."""
+        sides = _sides_of(saying)
+        if sides is None:
+            return None
+        kind, low, high = sides
+        weights, number = self._forms.reckoned(_less(low, high))
+        return kind, {atom: weights[atom][1] for atom in weights if weights[atom][1] != 0}, -number
+
     def numbered(self, line):
         """The line so; None of None, which stands for a saying that is no line."""
         if line is None:
@@ -44,12 +53,12 @@ class Numbering:
 
 def line_of(saying):
     """The line that a saying is, or None."""
-    if saying[0] in ("le", "eq"):
-        return _line_between(saying[0], saying[1], saying[2])
-    if saying[0] == "not" and saying[1][0] == "le":
-        _, high, low = saying[1]
-        return _line_between("le", ("add", low, ("num", 1)), high)
-    return None
+    sides = _sides_of(saying)
+    if sides is None:
+        return None
+    kind, low, high = sides
+    pairs, number = sum_of(_less(low, high))
+    return Line(kind, pairs, -number)
 
 
 def made(lines, weights, *, divisor=1):
@@ -89,10 +98,19 @@ def made_of(lines, weights, divisor):
     return "le", {atom: left[atom] // divisor for atom in left}, number // divisor
 
 
-def _line_between(kind, low, high):
-    """The line that low is at most, or just, high."""
-    pairs, number = sum_of(("add", low, ("mul", -1, high)))
-    return Line(kind, pairs, -number)
+def _sides_of(saying):
+    """Of a saying that is a line its kind and what is at most, or just, what; None of all else."""
+    if saying[0] in ("le", "eq"):
+        return saying
+    if saying[0] == "not" and saying[1][0] == "le":
+        _, high, low = saying[1]
+        return "le", ("add", low, ("num", 1)), high
+    return None
+
+
+def _less(low, high):
+    """The term that is by how much low is more than high."""
+    return ("add", low, ("mul", -1, high))
 
 
 def _is_right(pair, lines):

@@ -87,7 +87,8 @@ class Stand:
         todo = [name]
         while todo:
             text = self.texts.get(todo.pop())
-            for _, other in [] if text is None else called_in(text):
+            calls = [] if text is None else called_in(text)
+            for _, other in calls:
                 if other not in found:
                     found[other] = True
                     todo.append(other)
@@ -108,8 +109,6 @@ class Stand:
 
     def _is_good(self, name):
         """Whether a name, which may be absent, is that of a notion that stands firm, or of what is let by."""
-        if name in self._notions:
-            return name in self._firm
         return all([self._is_sound(other) for other in self.reaches(name)])
 
     def _is_sound(self, name):
@@ -118,8 +117,15 @@ class Stand:
             if name not in self.texts or name in self._notions:
                 self._sound[name] = name in self._firm
             else:
-                self._sound[name] = self._fits(name) and all(self.settled(name))
+                self._sound[name] = self._fits(name) and self._has_all_settled(name)
         return self._sound[name]
+
+    def _has_all_settled(self, name):
+        """Whether all goals of a text are settled; the first that isn't says it."""
+        for goal, key in self.goals(name):
+            if key is None or not self._is_settled(goal[2], key):
+                return False
+        return True
 
     def _fits(self, name):
         """Whether a work or claim fits."""

@@ -156,8 +156,12 @@ class Heights(Rows):
                   ["", "", "n", "nn", "nnn", "nn", "nn", "nn", "nn", "n", "", "n"],
                   ["", "n", "nn", "nnn", "nn", "nn", "nn", "n", "", "n"])
         self.high("(set x (mod (div (name a) 2) 3)) (give (num 0))", ["", "", "n", "n", "n", "", "n"])
+        self.high("(set x (add (name a) (add (mod (name a) 2) (div (name a) 2)))) (give (num 0))", None,
+                  ["", "n", "nn", "nn", "nnn", "nnn", "nn", "n", "", "n"])
 
     def test_guards(self):
+        self.high("(if (or (le (num 1) (num 2)) (not (eq (num 3) (num 4)))) () ()) (give (num 0))", None,
+                  ["", "n", "nn", "n", "nn", "nnn", "nn", "nn", "n", "", "", "n"])
         self.high("(if (and (not (le (num 1) (num 2))) (or (eq (num 3) (num 4)) (le (num 5) (num 6)))) () ()) (give (num 0))", None,
                   ["", "n", "nn", "n", "n", "nn", "nnn", "nn", "nnn", "nnnn", "nnn", "nn", "n", "", "", "n"])
 
@@ -178,7 +182,12 @@ class Heights(Rows):
         self.high(f"(if {YES} ((if {YES} ((give (num 1))) ((give (num 2))))) ()) (give (num 3))", None,
                   ["", "n", "nn", "n", "", "n", "nn", "n", "", "n", None, "", "n", None, "", "n"])
 
+    def test_no_rows(self):
+        self.assertEqual(heights([]), [])
+
     def test_jumps(self):
+        self.high(f"(if {YES} ((set x (num 1))) ((give (num 2)))) (give (num 3))", None, ["", "n", "nn", "n", "", "n", "", "", "n", "", "n"])
+        self.high(f"(if {YES} ((give (num 1))) ((set x (num 2)))) (give (num 3))", None, ["", "n", "nn", "n", "", "n", None, "", "n", "", "n"])
         self.high(f"(while {YES} () ((if {YES} ((set x (num 1))) ((set x (num 2)))))) (give (num 0))", None,
                   ["", "n", "nn", "n", "", "", "n", "nn", "n", "", "n", "", "", "n", "", "", "n"])
 

@@ -104,6 +104,19 @@ class Which(Goals):
                    *[((4, "hold", 0), way) for way in ways], *[((5, "gives", part), way) for part in (0, 1) for way in ways], of="c")
         self.looks(book, (0, "spends", 0), (1, "gives", 0), of="e")
 
+    def test_a_claim_has_no_looks_at_places(self):
+        block = "(if (le (read (row r) (num 5)) (num 0)) ((use d ((read (row r) (num 6))))) ()) (hold (le (read (row r) (num 7)) (num 0)))"
+        book = book_of(claim(letters="(r row)", block=block), claim("d"))
+        self.looks(book, (0, "spends", 0), ((2, "left", 0), (("then", 1),)), ((3, "hold", 0), (("then", 1),)), ((3, "hold", 0), (("else", 1),)), of="c")
+
+    def test_a_letter_may_be_called_as_what_is_used(self):
+        book = book_of(claim(letters="(c number)", block="(hold (le (num 3) (name c)))", gives="(le (name c) (num 5))"),
+                       work(letters="(c number)", own="(v number)", block="(use c ((name c))) (do v v ()) (hold (le (name c) (name v))) (give (num 0))"),
+                       work("v", letters="", own=""))
+        left = ("le", NOUGHT, ("add", ("add", ("num", 9), LESS_ONE), ("mul", -1, ("num", 9))))
+        self.assertEqual(self.goal(book, (3, "hold", 0)),
+                         ([SPENDS, ("le", name(0), ("num", 5)), left, no(("le", name(0), name(1)))], (("input", "c"), ("do", 2))))
+
     def test_a_way_ends_at_what_does_not_fit(self):
         for call in ("(do x none ((read (row r) (num 0))))", "(do x c ((read (row r) (num 0))))", "(do x v ((read (row r) (num 0)) (num 1)))",
                      "(do s v ((read (row r) (num 0))))"):

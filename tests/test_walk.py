@@ -65,7 +65,11 @@ class Statements(Walk):
 
     def test_guards(self):
         block = "(if {} ((give (num 1))) ((give (num 0))))"
-        for guard, a, worth in (("(not (le (name a) (num 3)))", 3, 0), ("(not (le (name a) (num 3)))", 4, 1),
+        for guard, a, worth in (("(not (eq (name a) (num 3)))", 3, 0), ("(not (eq (name a) (num 3)))", 4, 1),
+                                ("(not (and (eq (name a) (num 3)) (le (name a) (num 3))))", 3, 0),
+                                ("(not (or (eq (name a) (num 3)) (le (name a) (num 3))))", 3, 0),
+                                ("(not (or (eq (name a) (num 3)) (le (name a) (num 3))))", 4, 1),
+                                ("(not (le (name a) (num 3)))", 3, 0), ("(not (le (name a) (num 3)))", 4, 1),
                                 ("(and (le (num 1) (name a)) (le (name a) (num 3)))", 0, 0),
                                 ("(and (le (num 1) (name a)) (le (name a) (num 3)))", 3, 1),
                                 ("(or (le (name a) (num 1)) (eq (name a) (num 3)))", 3, 1),
@@ -99,6 +103,12 @@ class Statements(Walk):
         self.told(book, "c", (3,), ("gave", None), 0)
         self.told(book, "c", (4,), ("gave", None), 0)
         self.told(book_of(claim(letters="")), "c", (), ("gave", None), 0)
+
+    def test_a_claim_reads_beyond_the_ends(self):
+        book = book_of(claim(letters="(r row)", block="(if (le (read (row r) (num 5)) (num 0)) () ((hold (le (num 7) (read (row r) (num 5))))))"))
+        for row in ((2, ()), (0, ((5, 7),)), (2, ((-1, 8), (5, 9)))):
+            self.told(book, "c", (row,), ("gave", None), 0)
+        self.assertEqual(walk(book, "c", ((2, ((5, 3),)),))[0][:3], ("break", "c", (2, "hold", 0)))
 
     def test_what_is_handed_in_stays(self):
         book = book_of(work(block="(row s (row r)) (put s (num 0) (num 1)) (give (num 0))", **self.ROW))

